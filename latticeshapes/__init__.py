@@ -1,0 +1,1 @@
+"""Lattice shapes: polygons on the integer grid."""

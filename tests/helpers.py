@@ -1,0 +1,248 @@
+"""What several test files use: checks of errors, time limits, and slow references.
+
+The references follow the words of the document and share no code with the package.
+"""
+
+import contextlib
+import itertools
+import math
+import random
+import signal
+import unittest
+from fractions import Fraction
+
+NO_INTEGERS = [True, False, None, "1", "", b"1", [1], (1,), (), {}, {1: 1}, {1}]
+NO_POINTS = [
+    True, False, None, 0, 7, "", "ab", b"ab", (), (1,), (1, 2, 3), [1, 2], [], {}, {0: 1, 1: 2}, {1, 2},
+    (True, 1), (1, False), (True, False), ("1", 2), (1, "2"), (None, 1), (1, None), ((1, 2), 3), ([1], 2),
+    ((1, 2), (3, 4)),
+]
+BIG = 10 ** 60 - 1
+
+
+class ShapeTestCase(unittest.TestCase):
+    """A test case that also checks which error is raised, and its fields."""
+
+    def rejects(self, error, fields, call, *values, **named):
+        with self.assertRaises(error) as caught:
+            call(*values, **named)
+        self.assertIs(type(caught.exception), error)
+        for name, value in fields.items():
+            kept = getattr(caught.exception, name)
+            self.assertEqual(kept, value)
+            self.assertIs(type(kept), type(value))
+
+    def same_value(self, value, expected):
+        """Like assertEqual, but True is not 1 and a list is not a tuple."""
+        self.assertEqual(value, expected)
+        self.assertEqual(repr(value), repr(expected))
+
+
+@contextlib.contextmanager
+def at_once(seconds=10):
+    """Fail instead of running on where something is counted one by one."""
+    def stop(number, frame):
+        raise AssertionError("this takes too long")
+
+    before = signal.signal(signal.SIGALRM, stop)
+    signal.setitimer(signal.ITIMER_REAL, seconds)
+    try:
+        yield
+    finally:
+        signal.setitimer(signal.ITIMER_REAL, 0)
+        signal.signal(signal.SIGALRM, before)
+
+
+def det(rows):
+    """The determinant of the three points, twice the signed area of their triangle."""
+    (a, b), (c, d), (e, f) = rows
+    return a * (d - f) + c * (f - b) + e * (b - d)
+
+
+def common_points(first, second):
+    """The common points of two segments: a set, with "many" for a whole piece."""
+    (px, py), (qx, qy) = first
+    (rx, ry), (sx, sy) = second
+    ux, uy, vx, vy = qx - px, qy - py, sx - rx, sy - ry
+    slope = ux * vy - uy * vx
+    if slope != 0:
+        s = Fraction((rx - px) * vy - (ry - py) * vx, slope)
+        t = Fraction((rx - px) * uy - (ry - py) * ux, slope)
+        if 0 <= s <= 1 and 0 <= t <= 1:
+            return {(px + s * ux, py + s * uy)}
+        return set()
+    if det([(px, py), (qx, qy), (rx, ry)]) != 0:
+        return set()
+    low = max(min(first), min(second))
+    high = min(max(first), max(second))
+    if low > high:
+        return set()
+    return {low} if low == high else {low, high, "many"}
+
+
+def first_fault(corners):
+    """What is wrong with the corners: None, ("corner", i) or ("edges", i, j)."""
+    n = len(corners)
+    for i in range(n):
+        if det([corners[i - 1], corners[i], corners[(i + 1) % n]]) == 0:
+            return ("corner", i)
+    edges = [(corners[i], corners[(i + 1) % n]) for i in range(n)]
+    for i, j in itertools.combinations(range(n), 2):
+        allowed = set()
+        if j == i + 1:
+            allowed = {corners[j]}
+        elif i == 0 and j == n - 1:
+            allowed = {corners[0]}
+        if common_points(edges[i], edges[j]) != allowed:
+            return ("edges", i, j)
+    return None
+
+
+def signed_area(corners):
+    """Twice the area, negative for clockwise corners, added up in triangles."""
+    return sum(det([corners[0], corners[i], corners[i + 1]]) for i in range(1, len(corners) - 1))
+
+
+def kept_corners(corners):
+    """The corners in the order that a polygon keeps."""
+    rows = list(corners) if signed_area(corners) > 0 else list(reversed(corners))
+    while rows[0] != min(rows):
+        rows = rows[1:] + rows[:1]
+    return tuple(rows)
+
+
+def place_of(corners, point):
+    """Where the point lies, by the angles under which it sees the edges."""
+    total = 0
+    for start, end in zip(corners, corners[1:] + corners[:1]):
+        if det([point, start, end]) == 0 and min(start, end) <= point <= max(start, end):
+            return "border"
+        one = math.atan2(start[1] - point[1], start[0] - point[0])
+        other = math.atan2(end[1] - point[1], end[0] - point[0])
+        step = other - one
+        if step > math.pi:
+            step -= 2 * math.pi
+        if step < -math.pi:
+            step += 2 * math.pi
+        total += step
+    return "inside" if abs(total) > math.pi else "outside"
+
+
+def box_around(corners, margin=1):
+    """All grid points of a box around the corners."""
+    xs = [x for x, y in corners]
+    ys = [y for x, y in corners]
+    return list(itertools.product(
+        range(min(xs) - margin, max(xs) + margin + 1), range(min(ys) - margin, max(ys) + margin + 1)))
+
+
+def hull_by_sides(points):
+    """The corners of the convex hull in kept order, from all sides that leave no point to the right."""
+    points = sorted(set(points))
+    if len(points) == 1:
+        return tuple(points)
+    if all(det([points[0], points[-1], point]) == 0 for point in points):
+        return (points[0], points[-1])
+    after = {}
+    for start, end in itertools.permutations(points, 2):
+        sides = [(det([start, end, point]), point) for point in points]
+        if all(side > 0 or side == 0 and min(start, end) <= point <= max(start, end) for side, point in sides):
+            after[start] = end
+    corners = [points[0]]
+    while after[corners[-1]] != points[0]:
+        corners.append(after[corners[-1]])
+    return tuple(corners)
+
+
+def maps_by_corners(one, other):
+    """The six numbers of all grid maps that carry one row of corners onto the other."""
+    found = set()
+    n = len(one)
+    if len(other) != n:
+        return found
+    for way in (list(other), list(reversed(other))):
+        for at in range(n):
+            images = way[at:] + way[:at]
+            numbers = affine_map(one[:3], images[:3])
+            if any(number.denominator != 1 for number in numbers):
+                continue
+            a, b, c, d, e, f = [int(number) for number in numbers]
+            if abs(a * d - b * c) != 1:
+                continue
+            if all((a * x + b * y + e, c * x + d * y + f) == image for (x, y), image in zip(one, images)):
+                found.add((a, b, c, d, e, f))
+    return found
+
+
+def affine_map(points, images):
+    """The six numbers of the only map that carries three points to three others."""
+    (px, py), (qx, qy), (rx, ry) = points
+    ux, uy, vx, vy = qx - px, qy - py, rx - px, ry - py
+    area = ux * vy - uy * vx
+    rows = []
+    for k in (0, 1):
+        s, t = images[1][k] - images[0][k], images[2][k] - images[0][k]
+        a = Fraction(s * vy - t * uy, area)
+        b = Fraction(t * ux - s * vx, area)
+        rows.append((a, b, images[0][k] - a * px - b * py))
+    return [rows[0][0], rows[0][1], rows[1][0], rows[1][1], rows[0][2], rows[1][2]]
+
+
+def random_rows(count, least, most, size, seed):
+    """Some rows of points of a box, the same ones in each run."""
+    chance = random.Random(seed)
+    for _ in range(count):
+        length = chance.randint(least, most)
+        yield [(chance.randint(-size, size), chance.randint(-size, size)) for _ in range(length)]
+
+
+def random_polygons(count, least, most, size, seed):
+    """Some rows of corners that are polygons, clockwise ones too."""
+    found = []
+    for row in random_rows(100000, least, most, size, seed):
+        if first_fault(row) is None:
+            found.append(row)
+            if len(found) == count:
+                return found
+    raise AssertionError("too few polygons")
+
+
+def random_maps(count, steps, seed):
+    """The six numbers of some grid maps, of both determinants."""
+    chance = random.Random(seed)
+    found = []
+    for _ in range(count):
+        a, b, c, d = chance.choice([(1, 0, 0, 1), (1, 0, 0, -1), (0, 1, 1, 0), (0, -1, 1, 0)])
+        for _ in range(steps):
+            k = chance.randint(-2, 2)
+            if chance.randint(0, 1):
+                a, b = a + k * c, b + k * d
+            else:
+                c, d = c + k * a, d + k * b
+        found.append((a, b, c, d, chance.randint(-9, 9), chance.randint(-9, 9)))
+    return found
+
+
+def moved_by(numbers, points):
+    """The images of the points under the map of six numbers."""
+    a, b, c, d, e, f = numbers
+    return [(a * x + b * y + e, c * x + d * y + f) for x, y in points]
+
+
+TRIANGLE = [(0, 0), (1, 0), (0, 1)]
+SQUARE = [(0, 0), (1, 0), (1, 1), (0, 1)]
+HEXAGON = [(1, 0), (1, 1), (0, 1), (-1, 0), (-1, -1), (0, -1)]
+ARROW = [(0, 0), (4, 0), (1, 1), (0, 4)]
+HOOK = [(0, 0), (3, 0), (3, 3), (2, 3), (2, 1), (0, 1)]
+COMB = [(0, 0), (6, 0), (6, 3), (5, 1), (4, 3), (3, 1), (2, 3), (1, 1), (0, 3)]
+SPIRAL = [(0, 0), (5, 0), (5, 5), (1, 5), (1, 2), (3, 2), (3, 3), (2, 3), (2, 4), (4, 4), (4, 1), (0, 1)]
+CHIRAL = [(0, 0), (3, 0), (4, 1), (1, 2)]
+SHAPES = [TRIANGLE, SQUARE, HEXAGON, ARROW, HOOK, COMB, SPIRAL, CHIRAL]
+
+
+def many_corners(count):
+    """A convex row of an even number of corners, on two parabolas."""
+    half = count // 2
+    lower = [(x, x * x - half * x) for x in range(half)]
+    upper = [(half - x, half * x - x * x + 1) for x in range(half)]
+    return lower + upper
