@@ -3,7 +3,7 @@
 from latticeshapes.errors import InvalidPolygon, LimitExceeded
 from latticeshapes.geometry import turn
 from latticeshapes.points import is_point
-from latticeshapes.polygons import ConvexPolygon
+from latticeshapes.polygons import ConvexPolygon, Polygon
 
 
 def convex_hull(points):
@@ -36,7 +36,7 @@ def need_points(points):
 
 def need_few_corners(corners):
     """Raise LimitExceeded for more corners than a polygon may have."""
-    if len(corners) > ConvexPolygon.MAX_CORNERS:
+    if len(corners) > Polygon.MAX_CORNERS:
         raise LimitExceeded(len(corners))
 
 
