@@ -1,12 +1,16 @@
 """Points of the grid: tuples of two integers."""
 
 from latticeshapes.errors import InvalidDirection, InvalidPoint
-from latticeshapes.integers import common_divisor, is_integer
+from latticeshapes.integers import common_divisor
 
 
 def is_point(value):
     """Return whether the value is a tuple of two integers."""
-    return isinstance(value, tuple) and len(value) == 2 and is_integer(value[0]) and is_integer(value[1])
+    if not isinstance(value, tuple) or len(value) != 2:
+        return False
+    x, y = value
+    # Written out instead of calling is_integer, since every corner of a polygon passes here.
+    return isinstance(x, int) and isinstance(y, int) and not isinstance(x, bool) and not isinstance(y, bool)
 
 
 def need_point(value):

@@ -2,12 +2,24 @@
 
 from latticeshapes.errors import CrossingEdges, DegenerateCorner, InvalidPolygon, NotConvex
 from latticeshapes.geometry import (
-    closed_edges, corner_turns, difference, double_area_of, on_segment, segments_meet, turn)
-from latticeshapes.integers import greatest_divisor
+    closed_edges, corner_turns, double_area_of, edge_steps, first_meeting, goes_round_once, on_segment, turn)
+from latticeshapes.integers import common_divisor, greatest_divisor
 from latticeshapes.maps import need_map
-from latticeshapes.points import content, is_point, need_point
+from latticeshapes.points import is_point, need_point
 
 LEAST_CORNERS = 3
+
+
+class Outline:
+    """The corners of a polygon in the order kept, which need no check any more.
+
+    The classes of polygons take one in the place of corners, so that what has
+    been found out about the corners is not found out again.
+    """
+
+    def __init__(self, kept, turns_left):
+        self.kept = kept
+        self.turns_left = turns_left
 
 
 class Polygon:
@@ -16,11 +28,9 @@ class Polygon:
     MAX_CORNERS = 60
 
     def __init__(self, corners):
-        need_corners(corners)
-        given = tuple(corners)
-        need_bends(given)
-        need_apart_edges(given)
-        self.kept = kept_order(given)
+        outline = outline_of(corners)
+        self.kept = outline.kept
+        self.turns_left = outline.turns_left
 
     @property
     def corners(self):
@@ -35,7 +45,7 @@ class Polygon:
     @property
     def border_points(self):
         """The number of grid points on the border."""
-        return sum([content(difference(start, end)) for start, end in closed_edges(self.kept)])
+        return sum([common_divisor(x, y) for x, y in edge_steps(self.kept)])
 
     @property
     def inner_points(self):
@@ -45,7 +55,7 @@ class Polygon:
     @property
     def total_points(self):
         """The number of grid points on the border and inside."""
-        return self.border_points + self.inner_points
+        return (self.double_area + self.border_points + 2) // 2
 
     @property
     def middle(self):
@@ -59,7 +69,7 @@ class Polygon:
     @property
     def is_convex(self):
         """Whether every corner turns left."""
-        return first_right_turn(self.kept) is None
+        return self.turns_left
 
     def __eq__(self, other):
         return isinstance(other, Polygon) and self.kept == other.kept
@@ -90,7 +100,8 @@ class Polygon:
 
     def moved(self, grid_map):
         """Return the image of the polygon under the map."""
-        return Polygon(image_corners(self.kept, grid_map))
+        outline = image_outline(self, grid_map)
+        return Polygon(outline)
 
 
 class ConvexPolygon(Polygon):
@@ -98,9 +109,8 @@ class ConvexPolygon(Polygon):
 
     def __init__(self, corners):
         Polygon.__init__(self, corners)
-        position = first_right_turn(self.kept)
-        if position is not None:
-            raise NotConvex(position)
+        if not self.turns_left:
+            raise NotConvex(first_right_turn(self.kept))
 
     def __eq__(self, other):
         return isinstance(other, Polygon) and self.kept == other.kept
@@ -110,15 +120,16 @@ class ConvexPolygon(Polygon):
 
     def moved(self, grid_map):
         """Return the image of the polygon under the map, a convex one too."""
-        return ConvexPolygon(image_corners(self.kept, grid_map))
+        outline = image_outline(self, grid_map)
+        return ConvexPolygon(outline)
 
 
 def to_polygon(corners):
     """Return a ConvexPolygon if the polygon is convex, otherwise a Polygon."""
-    polygon = Polygon(corners)
-    if polygon.is_convex:
-        return ConvexPolygon(corners)
-    return polygon
+    outline = outline_of(corners)
+    if outline.turns_left:
+        return ConvexPolygon(outline)
+    return Polygon(outline)
 
 
 def need_polygon(value):
@@ -138,11 +149,23 @@ def need_corners(corners):
             raise InvalidPolygon(position)
 
 
-def need_bends(corners):
-    """Raise DegenerateCorner for the first corner on a line with its neighbours."""
-    for position, bend in enumerate(corner_turns(corners)):
-        if bend == 0:
-            raise DegenerateCorner(position)
+def outline_of(corners):
+    """Return the outline of the corners; raise what the document says of wrong ones."""
+    if isinstance(corners, Outline):
+        return corners
+    need_corners(corners)
+    given = tuple(corners)
+    steps = edge_steps(given)
+    turns = corner_turns(steps)
+    if 0 in turns:
+        raise DegenerateCorner(turns.index(0))
+    always_same = goes_round_once(steps, turns)
+    # Edges of a convex row cannot meet, so only other rows are searched.
+    if not always_same:
+        need_apart_edges(given)
+    start = given.index(min(given))
+    # The least corner sticks out, so it turns the way the corners go round.
+    return Outline(kept_order(given, start, turns[start] > 0), always_same)
 
 
 def need_apart_edges(corners):
@@ -150,25 +173,23 @@ def need_apart_edges(corners):
 
     Consecutive edges have only their corner in common once no corner is degenerate.
     """
-    segments = closed_edges(corners)
-    last = len(segments) - 1
-    for first in range(last + 1):
-        for second in range(first + 2, last + 1):
-            if (first, second) != (0, last) and segments_meet(segments[first], segments[second]):
-                raise CrossingEdges(first, second)
+    meeting = first_meeting(corners)
+    if meeting is not None:
+        first, second = meeting
+        raise CrossingEdges(first, second)
 
 
-def kept_order(corners):
-    """Return the corners counterclockwise, beginning with the least one."""
-    if double_area_of(corners) < 0:
+def kept_order(corners, start, leftward):
+    """Return the corners counterclockwise, beginning with the one at start."""
+    if not leftward:
         corners = corners[::-1]
-    start = corners.index(min(corners))
+        start = len(corners) - 1 - start
     return corners[start:] + corners[:start]
 
 
 def first_right_turn(corners):
     """Return the index of the first corner that does not turn left, or None."""
-    for position, bend in enumerate(corner_turns(corners)):
+    for position, bend in enumerate(corner_turns(edge_steps(corners))):
         if bend < 0:
             return position
     return None
@@ -186,7 +207,9 @@ def is_right_of(point, start, end):
     return (rises and side > 0) or (falls and side < 0)
 
 
-def image_corners(corners, grid_map):
-    """Return the list of the images of the corners."""
+def image_outline(polygon, grid_map):
+    """Return the outline of the image of the polygon, which is sound and convex as before."""
     need_map(grid_map)
-    return [grid_map.apply(corner) for corner in corners]
+    images = tuple([grid_map.apply(corner) for corner in polygon.corners])
+    start = images.index(min(images))
+    return Outline(kept_order(images, start, grid_map.is_proper), polygon.is_convex)

@@ -111,6 +111,22 @@ def kept_corners(corners):
     return tuple(rows)
 
 
+def all_ways(corners):
+    """The same corners from every one of them, in both directions."""
+    for row in (list(corners), list(reversed(corners))):
+        for at in range(len(row)):
+            yield row[at:] + row[:at]
+
+
+def first_right(corners):
+    """The index of the first kept corner that turns right, or None."""
+    n = len(corners)
+    for i in range(n):
+        if det([corners[i - 1], corners[i], corners[(i + 1) % n]]) < 0:
+            return i
+    return None
+
+
 def place_of(corners, point):
     """Where the point lies, by the angles under which it sees the edges."""
     total = 0

@@ -5,30 +5,15 @@ from latticeshapes.errors import (
 from latticeshapes.maps import GridMap
 from latticeshapes.polygons import ConvexPolygon, Polygon, to_polygon
 from tests.helpers import (
-    ARROW, BIG, CHIRAL, COMB, HEXAGON, HOOK, NO_POINTS, SHAPES, SPIRAL, SQUARE, TRIANGLE, ShapeTestCase, at_once, det,
-    first_fault, kept_corners, many_corners, moved_by, random_maps, random_polygons, random_rows, signed_area)
+    ARROW, BIG, CHIRAL, COMB, HEXAGON, HOOK, NO_POINTS, SHAPES, SPIRAL, SQUARE, TRIANGLE, ShapeTestCase, all_ways,
+    at_once, first_fault, first_right, kept_corners, many_corners, moved_by, random_maps, random_polygons, random_rows,
+    signed_area)
 
 MAKERS = [Polygon, ConvexPolygon, to_polygon]
 NO_ROWS = [None, True, 0, 3, "", "abc", b"abc", {}, {0: (0, 0), 1: (1, 0), 2: (0, 1)}, {(0, 0), (1, 0), (0, 1)},
            object(), GridMap(1, 0, 0, 1), Polygon(TRIANGLE), ConvexPolygon(TRIANGLE), Polygon]
 RANDOM = random_polygons(250, 3, 7, 3, 1)
 NO_MAPS = NO_POINTS + [(1, 0, 0, 1, 0, 0), [1, 0, 0, 1, 0, 0], object(), GridMap]
-
-
-def all_ways(corners):
-    """The same corners from every one of them, in both directions."""
-    for row in (list(corners), list(reversed(corners))):
-        for at in range(len(row)):
-            yield row[at:] + row[:at]
-
-
-def first_right(corners):
-    """The index of the first kept corner that turns right, or None."""
-    n = len(corners)
-    for i in range(n):
-        if det([corners[i - 1], corners[i], corners[(i + 1) % n]]) < 0:
-            return i
-    return None
 
 
 class RejectedValuesTest(ShapeTestCase):
