@@ -2,7 +2,7 @@
 
 from latticeshapes.geometry import difference
 from latticeshapes.integers import bezout
-from latticeshapes.maps import GridMap
+from latticeshapes.maps import GridMap, images_of
 from latticeshapes.points import primitive_part
 from latticeshapes.polygons import need_polygon
 
@@ -21,13 +21,24 @@ def candidates(polygon, *, proper=False):
 
 def normal_form(polygon, *, proper=False):
     """Return the least candidate of the polygon."""
-    return min([candidate for candidate, grid_map in candidates(polygon, proper=proper)])
+    form, maps = form_and_maps(polygon, proper)
+    return form
+
+
+def form_and_maps(polygon, proper):
+    """Return the normal form and the list of the maps of all candidates that are equal to it.
+
+    These are all the maps that carry the polygon onto the polygon of the normal form.
+    """
+    pairs = list(candidates(polygon, proper=proper))
+    form = min([candidate for candidate, grid_map in pairs])
+    return (form, [grid_map for candidate, grid_map in pairs if candidate == form])
 
 
 def candidate_of(corners, proper):
     """Return the candidate of the corners in this order, and its map."""
     grid_map = candidate_map(corners, proper)
-    return (tuple([grid_map.apply(corner) for corner in corners]), grid_map)
+    return (tuple(images_of(corners, grid_map)), grid_map)
 
 
 def candidate_map(corners, proper):

@@ -1,8 +1,8 @@
 """Grid maps: integer maps of the plane that have an integer inverse."""
 
 from latticeshapes.errors import InvalidMap
-from latticeshapes.integers import need_integer
-from latticeshapes.points import need_point
+from latticeshapes.integers import bezout, need_integer
+from latticeshapes.points import need_point, primitive_part
 
 IDENTITY = (1, 0, 0, 1, 0, 0)
 
@@ -44,9 +44,7 @@ class GridMap:
     def apply(self, point):
         """Return the image of the point."""
         need_point(point)
-        x, y = point
-        a, b, c, d, e, f = self.six
-        return (a * x + b * y + e, c * x + d * y + f)
+        return images_of([point], self)[0]
 
     def then(self, *others):
         """Return the map that does this map first and the others after it."""
@@ -96,6 +94,23 @@ def need_map(value):
     """Raise InvalidMap for a value that is not a grid map."""
     if not isinstance(value, GridMap):
         raise InvalidMap("a grid map is needed")
+
+
+def images_of(points, grid_map):
+    """Return the list of the images of points that have been checked already."""
+    a, b, c, d, e, f = grid_map.six
+    return [(a * x + b * y + e, c * x + d * y + f) for x, y in points]
+
+
+def upright_map(direction):
+    """Return a proper map that makes upright the lines on which p * x + q * y is constant.
+
+    It carries (x, y) to a point whose first coordinate is p * x + q * y divided
+    by the content of the direction (p, q).
+    """
+    p, q = primitive_part(direction)
+    u, v = bezout(p, q)
+    return GridMap(p, q, -v, u)
 
 
 def determinant_of(six):

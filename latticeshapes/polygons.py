@@ -4,7 +4,7 @@ from latticeshapes.errors import CrossingEdges, DegenerateCorner, InvalidPolygon
 from latticeshapes.geometry import (
     closed_edges, corner_turns, double_area_of, edge_steps, first_meeting, goes_round_once, on_segment, turn)
 from latticeshapes.integers import common_divisor, greatest_divisor
-from latticeshapes.maps import need_map
+from latticeshapes.maps import images_of, need_map
 from latticeshapes.points import is_point, need_point
 
 LEAST_CORNERS = 3
@@ -138,6 +138,12 @@ def need_polygon(value):
         raise InvalidPolygon(None)
 
 
+def need_convex(value):
+    """Raise InvalidPolygon(None) for a value that is not a ConvexPolygon."""
+    if not isinstance(value, ConvexPolygon):
+        raise InvalidPolygon(None)
+
+
 def need_corners(corners):
     """Raise InvalidPolygon for a value that is not a row of 3 to 60 points."""
     if not isinstance(corners, (list, tuple)):
@@ -210,6 +216,6 @@ def is_right_of(point, start, end):
 def image_outline(polygon, grid_map):
     """Return the outline of the image of the polygon, which is sound and convex as before."""
     need_map(grid_map)
-    images = tuple([grid_map.apply(corner) for corner in polygon.corners])
+    images = tuple(images_of(polygon.corners, grid_map))
     start = images.index(min(images))
     return Outline(kept_order(images, start, grid_map.is_proper), polygon.is_convex)

@@ -1,6 +1,7 @@
 """What several test files use: checks of errors, time limits, and slow references.
 
 The references follow the words of the document and share no code with the package.
+Polygons and maps of the package appear here only as values that are passed on.
 """
 
 import contextlib
@@ -11,6 +12,10 @@ import signal
 import unittest
 from fractions import Fraction
 
+from latticeshapes.errors import InvalidDirection, InvalidInteger, InvalidPoint, InvalidPolygon
+from latticeshapes.maps import GridMap
+from latticeshapes.polygons import ConvexPolygon, Polygon
+
 NO_INTEGERS = [True, False, None, "1", "", b"1", [1], (1,), (), {}, {1: 1}, {1}]
 NO_POINTS = [
     True, False, None, 0, 7, "", "ab", b"ab", (), (1,), (1, 2, 3), [1, 2], [], {}, {0: 1, 1: 2}, {1, 2},
@@ -18,6 +23,9 @@ NO_POINTS = [
     ((1, 2), (3, 4)),
 ]
 BIG = 10 ** 60 - 1
+FAR = 10 ** 29
+BIG_MAPS = [
+    (FAR, FAR - 1, 1, 1, FAR, -FAR), (1, FAR, 0, -1, 3, -FAR), (0, -1, 1, FAR, 7, FAR - 2), (FAR + 1, 1, FAR, 1, 0, 0)]
 
 
 class ShapeTestCase(unittest.TestCase):
@@ -31,6 +39,21 @@ class ShapeTestCase(unittest.TestCase):
             kept = getattr(caught.exception, name)
             self.assertEqual(kept, value)
             self.assertIs(type(kept), type(value))
+
+    def rejects_in_order(self, call, places, **more):
+        """Check that wrong values are rejected in each place, and of two the first one.
+
+        A place is (name, right value, error, its fields, wrong values).
+        """
+        right = {place[0]: place[1] for place in places}
+        for at, (name, _, error, fields, wrongs) in enumerate(places):
+            for wrong in wrongs:
+                with self.subTest(name, wrong=repr(wrong)):
+                    rows = [{**right, name: wrong}]
+                    rows += [{**rows[0], later[0]: value} for later in places[at + 1:] for value in later[4][:2]]
+                    for row in rows:
+                        self.rejects(error, fields, call, *row.values(), **more)
+                        self.rejects(error, fields, call, **more, **dict(reversed(row.items())))
 
     def same_value(self, value, expected):
         """Like assertEqual, but True is not 1 and a list is not a tuple."""
@@ -253,7 +276,32 @@ HOOK = [(0, 0), (3, 0), (3, 3), (2, 3), (2, 1), (0, 1)]
 COMB = [(0, 0), (6, 0), (6, 3), (5, 1), (4, 3), (3, 1), (2, 3), (1, 1), (0, 3)]
 SPIRAL = [(0, 0), (5, 0), (5, 5), (1, 5), (1, 2), (3, 2), (3, 3), (2, 3), (2, 4), (4, 4), (4, 1), (0, 1)]
 CHIRAL = [(0, 0), (3, 0), (4, 1), (1, 2)]
+MIRROR = (-1, 0, 0, 1, 0, 0)
+NO_POLYGONS = [None, True, 0, "x", TRIANGLE, tuple(TRIANGLE), (), {}, {1}, object(), GridMap(1, 0, 0, 1), Polygon]
+NO_CONVEX = NO_POLYGONS + [Polygon(SQUARE), Polygon(ARROW), ConvexPolygon]
+NO_DIRECTIONS = NO_POINTS + [(0, 0)]
 SHAPES = [TRIANGLE, SQUARE, HEXAGON, ARROW, HOOK, COMB, SPIRAL, CHIRAL]
+
+
+def polygon_place(name, polygon):
+    """The place of an argument that must be a Polygon, for rejects_in_order."""
+    return (name, polygon, InvalidPolygon, {"position": None}, NO_POLYGONS)
+
+
+def convex_place(name, convex):
+    return (name, convex, InvalidPolygon, {"position": None}, NO_CONVEX)
+
+
+def integer_place(name, number, wrong=()):
+    return (name, number, InvalidInteger, {}, [*NO_INTEGERS, *wrong])
+
+
+def point_place(name, point):
+    return (name, point, InvalidPoint, {}, NO_POINTS)
+
+
+def direction_place(name, direction):
+    return (name, direction, InvalidDirection, {}, NO_DIRECTIONS)
 
 
 def many_corners(count):

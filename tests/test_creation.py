@@ -8,11 +8,10 @@ from latticeshapes.errors import CrossingEdges, DegenerateCorner, NotConvex
 from latticeshapes.maps import GridMap
 from latticeshapes.polygons import ConvexPolygon, Polygon, to_polygon
 from tests.helpers import (
-    BIG, SHAPES, ShapeTestCase, all_ways, at_once, first_fault, first_right, kept_corners, many_corners, moved_by,
+    BIG, FAR, SHAPES, ShapeTestCase, all_ways, at_once, first_fault, first_right, kept_corners, many_corners, moved_by,
     random_rows)
 
 MAKERS = [Polygon, ConvexPolygon, to_polygon]
-FAR = 10 ** 29
 FAR_MAPS = [(FAR, 0, 0, 1, -BIG, BIG), (FAR, FAR - 1, 1, 1, 5, -BIG), (0, FAR, -FAR, 7, BIG, 3)]
 
 

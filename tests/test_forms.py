@@ -6,12 +6,10 @@ from latticeshapes.forms import candidates, normal_form
 from latticeshapes.maps import GridMap
 from latticeshapes.polygons import ConvexPolygon, Polygon, to_polygon
 from tests.helpers import (
-    ARROW, CHIRAL, HEXAGON, SHAPES, SQUARE, TRIANGLE, ShapeTestCase, at_once, kept_corners, many_corners,
-    maps_by_corners, moved_by, random_maps, random_polygons)
+    ARROW, CHIRAL, HEXAGON, MIRROR, NO_POLYGONS, SHAPES, SQUARE, TRIANGLE, ShapeTestCase, at_once, kept_corners,
+    many_corners, maps_by_corners, moved_by, random_maps, random_polygons)
 
 RANDOM = random_polygons(60, 3, 7, 3, 41)
-NO_POLYGONS = [None, True, 0, "x", TRIANGLE, tuple(TRIANGLE), (), {}, object(), GridMap(1, 0, 0, 1), Polygon]
-MIRROR = (-1, 0, 0, 1, 0, 0)
 
 
 def ways(kept, proper):

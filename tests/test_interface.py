@@ -15,6 +15,11 @@ FUNCTIONS = {
     "polygons": ["to_polygon(corners)"],
     "hulls": ["convex_hull(points)", "hull_chain(points)"],
     "forms": ["candidates(polygon, *, proper=False)", "normal_form(polygon, *, proper=False)"],
+    "matching": [
+        "are_equivalent(one, other, *, proper=False)", "maps_between(one, other, *, proper=False)",
+        "canonical_map(polygon, *, proper=False)", "first_difference(one, other, *, proper=False)"],
+    "symmetry": ["symmetries(polygon, *, proper=False)", "group_name(polygon)", "orbit(polygon, point)"],
+    "counting": ["multiple_counts(polygon, factor)", "count_beside(convex, direction, bound)"],
 }
 # Each class with its own methods and properties as the interface lists them for it.
 METHODS = {
