@@ -9,6 +9,16 @@ def difference(start, end):
     return (end[0] - start[0], end[1] - start[1])
 
 
+def cross_product(one, other):
+    """Return the cross product of two points."""
+    return one[0] * other[1] - one[1] * other[0]
+
+
+def scalar_product(one, other):
+    """Return the scalar product of two points."""
+    return one[0] * other[0] + one[1] * other[1]
+
+
 def turn(first, second, third):
     """Return a number that is positive for a left turn, 0 on a line."""
     return ((second[0] - first[0]) * (third[1] - first[1])

@@ -1,6 +1,7 @@
 """Points of the grid: tuples of two integers."""
 
 from latticeshapes.errors import InvalidDirection, InvalidPoint
+from latticeshapes.geometry import cross_product
 from latticeshapes.integers import common_divisor
 
 
@@ -29,7 +30,7 @@ def cross(first, second):
     """Return the cross product of two points."""
     need_point(first)
     need_point(second)
-    return first[0] * second[1] - first[1] * second[0]
+    return cross_product(first, second)
 
 
 def content(point):

@@ -175,6 +175,11 @@ def box_around(corners, margin=1):
         range(min(xs) - margin, max(xs) + margin + 1), range(min(ys) - margin, max(ys) + margin + 1)))
 
 
+def points_of(corners):
+    """All grid points of the polygon, one by one."""
+    return [point for point in box_around(corners, 0) if place_of(corners, point) != "outside"]
+
+
 def hull_by_sides(points):
     """The corners of the convex hull in kept order, from all sides that leave no point to the right."""
     points = sorted(set(points))
@@ -190,6 +195,24 @@ def hull_by_sides(points):
     corners = [points[0]]
     while after[corners[-1]] != points[0]:
         corners.append(after[corners[-1]])
+    return tuple(corners)
+
+
+def hull_by_wrapping(points):
+    """The same as hull_by_sides, by going around many points from corner to corner."""
+    points = sorted(set(points))
+    corners = points[:1]
+    while len(points) > 1:
+        best = points[0] if points[0] != corners[-1] else points[1]
+        for point in points:
+            side = det([corners[-1], best, point])
+            farther = abs(point[0] - corners[-1][0]) + abs(point[1] - corners[-1][1]) > (
+                abs(best[0] - corners[-1][0]) + abs(best[1] - corners[-1][1]))
+            if side < 0 or side == 0 and farther:
+                best = point
+        if best == corners[0]:
+            break
+        corners.append(best)
     return tuple(corners)
 
 
@@ -233,6 +256,12 @@ def random_rows(count, least, most, size, seed):
     for _ in range(count):
         length = chance.randint(least, most)
         yield [(chance.randint(-size, size), chance.randint(-size, size)) for _ in range(length)]
+
+
+def random_hulls(count, least, most, size, seed):
+    """The corners of the hulls of some rows of points, without points and segments."""
+    hulls = [hull_by_sides(row) for row in random_rows(count, least, most, size, seed)]
+    return [hull for hull in hulls if len(hull) > 2]
 
 
 def random_polygons(count, least, most, size, seed):
@@ -304,9 +333,34 @@ def direction_place(name, direction):
     return (name, direction, InvalidDirection, {}, NO_DIRECTIONS)
 
 
+def parabola(count):
+    """A convex row of corners whose edges go to the right and up, except for the last one."""
+    return [(x, x * x) for x in range(count)]
+
+
+def falling_parabola(count):
+    """A convex row of corners whose edges go in other directions than those of parabola."""
+    return [(-x, -x * x - x) for x in range(count)]
+
+
 def many_corners(count):
     """A convex row of an even number of corners, on two parabolas."""
     half = count // 2
     lower = [(x, x * x - half * x) for x in range(half)]
     upper = [(half - x, half * x - x * x + 1) for x in range(half)]
     return lower + upper
+
+
+def star(count):
+    """A row of corners around the middle, near to it and far from it by turns."""
+    row = []
+    for at in range(count):
+        reach = 3000 - at % 2 * 1700 + at
+        angle = 2 * math.pi * at / count
+        row.append((round(reach * math.cos(angle)), round(reach * math.sin(angle))))
+    return row
+
+
+def comb(count):
+    """A row of corners with upright teeth."""
+    return [(0, 0), (2 * count, -1)] + [(2 * count - 2 * at, 5 + at % 2 * 60) for at in range(count - 2)]

@@ -10,18 +10,13 @@ from latticeshapes.maps import GridMap
 from latticeshapes.polygons import ConvexPolygon, Polygon, to_polygon
 from tests.helpers import (
     ARROW, BIG, BIG_MAPS, FAR, HEXAGON, SHAPES, SQUARE, TRIANGLE, ShapeTestCase, at_once, box_around, convex_place,
-    direction_place, hull_by_sides, integer_place, kept_corners, many_corners, moved_by, place_of, polygon_place,
-    random_maps, random_polygons, random_rows)
+    direction_place, integer_place, kept_corners, many_corners, moved_by, place_of, points_of, polygon_place,
+    random_hulls, random_maps, random_polygons)
 
 RANDOM = random_polygons(40, 3, 7, 3, 91)
-CONVEX = [row for row in map(hull_by_sides, random_rows(60, 3, 8, 4, 92)) if len(row) > 2] + [
+CONVEX = random_hulls(60, 3, 8, 4, 92) + [
     tuple(TRIANGLE), tuple(SQUARE), kept_corners(HEXAGON), ((0, 0), (1, 5), (0, 1)), ((0, 0), (7, 2), (3, 1)),
     ((-4, -4), (4, -4), (4, 4), (-4, 4))]
-
-
-def points_of(corners):
-    """All grid points of the polygon, one by one."""
-    return [point for point in box_around(corners, 0) if place_of(corners, point) != "outside"]
 
 
 class MultipleCountsTest(ShapeTestCase):

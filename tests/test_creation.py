@@ -1,6 +1,5 @@
 """Creating polygons of many corners: the same results and errors, in few steps."""
 
-import math
 import random
 import unittest
 
@@ -8,26 +7,11 @@ from latticeshapes.errors import CrossingEdges, DegenerateCorner, NotConvex
 from latticeshapes.maps import GridMap
 from latticeshapes.polygons import ConvexPolygon, Polygon, to_polygon
 from tests.helpers import (
-    BIG, FAR, SHAPES, ShapeTestCase, all_ways, at_once, first_fault, first_right, kept_corners, many_corners, moved_by,
-    random_rows)
+    BIG, FAR, SHAPES, ShapeTestCase, all_ways, at_once, comb, first_fault, first_right, kept_corners, many_corners,
+    moved_by, random_rows, star)
 
 MAKERS = [Polygon, ConvexPolygon, to_polygon]
 FAR_MAPS = [(FAR, 0, 0, 1, -BIG, BIG), (FAR, FAR - 1, 1, 1, 5, -BIG), (0, FAR, -FAR, 7, BIG, 3)]
-
-
-def star(count):
-    """A row of corners around the middle, near to it and far from it by turns."""
-    row = []
-    for at in range(count):
-        reach = 3000 - at % 2 * 1700 + at
-        angle = 2 * math.pi * at / count
-        row.append((round(reach * math.cos(angle)), round(reach * math.sin(angle))))
-    return row
-
-
-def comb(count):
-    """A row of corners with upright teeth."""
-    return [(0, 0), (2 * count, -1)] + [(2 * count - 2 * at, 5 + at % 2 * 60) for at in range(count - 2)]
 
 
 def spiral(count):

@@ -4,8 +4,8 @@ from latticeshapes.errors import InvalidPolygon, LimitExceeded
 from latticeshapes.hulls import convex_hull, hull_chain
 from latticeshapes.polygons import ConvexPolygon
 from tests.helpers import (
-    ARROW, BIG, COMB, HEXAGON, NO_POINTS, SHAPES, SPIRAL, ShapeTestCase, at_once, hull_by_sides, many_corners,
-    random_rows)
+    ARROW, BIG, COMB, HEXAGON, NO_POINTS, SHAPES, SPIRAL, ShapeTestCase, at_once, hull_by_sides, hull_by_wrapping,
+    many_corners, random_rows)
 
 BOTH = [convex_hull, hull_chain]
 NO_ROWS = [None, True, 0, "", "ab", b"ab", {}, {(0, 0): 1, (1, 0): 1, (0, 1): 1}, {(0, 0), (1, 0), (0, 1)}, object(),
@@ -32,6 +32,7 @@ class HullsTest(ShapeTestCase):
                 self.rejects(InvalidPolygon, {"position": None}, convex_hull, row)
             self.same_value(hull_chain(row), expected)
             self.same_value(hull_chain(points=tuple(row)), expected)
+            self.assertEqual(hull_by_wrapping(row), expected)
 
     def test_known_hulls(self):
         for corners in SHAPES:

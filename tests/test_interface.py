@@ -20,6 +20,14 @@ FUNCTIONS = {
         "canonical_map(polygon, *, proper=False)", "first_difference(one, other, *, proper=False)"],
     "symmetry": ["symmetries(polygon, *, proper=False)", "group_name(polygon)", "orbit(polygon, point)"],
     "counting": ["multiple_counts(polygon, factor)", "count_beside(convex, direction, bound)"],
+    "widths": [
+        "width_in(polygon, direction)", "least_width(polygon)", "width_certificate(polygon)",
+        "accepts_width(polygon, width, certificate)"],
+    "listing": ["grid_points(convex)"],
+    "sums": [
+        "add_polygons(*polygons)", "mixed_area(one, other)", "is_chain(value)", "add_chain(convex, chain)",
+        "remainder(whole, part)"],
+    "splits": ["primitive_pieces(convex)", "splits(convex)", "is_indecomposable(convex)"],
 }
 # Each class with its own methods and properties as the interface lists them for it.
 METHODS = {
@@ -42,7 +50,7 @@ ERRORS = [
     "LimitExceeded", "NameInUse", "NotConvex", "NotFlippable", "NothingToUndo", "RunFailed", "ShapeError",
     "UnknownName",
 ]
-GENERATORS = [("forms", "candidates"), ("polygons", "Polygon", "edges")]
+GENERATORS = [("forms", "candidates"), ("listing", "grid_points"), ("polygons", "Polygon", "edges")]
 
 
 def named(module, *names):
