@@ -1,9 +1,9 @@
 """Numbers of grid points of multiples, and of parts on one side of a line."""
 
-from latticeshapes.geometry import closed_edges
-from latticeshapes.integers import floor_sum, need_at_least, need_integer
-from latticeshapes.maps import images_of, upright_map
-from latticeshapes.points import content, need_direction
+from latticeshapes.geometry import area_and_border
+from latticeshapes.integers import common_divisor, need_at_least, need_integer, sum_of_floors
+from latticeshapes.maps import images_under, upright_numbers
+from latticeshapes.points import need_direction
 from latticeshapes.polygons import need_convex, need_polygon
 
 
@@ -11,8 +11,8 @@ def multiple_counts(polygon, factor):
     """Return (total, inner), the numbers of grid points of the multiple."""
     need_polygon(polygon)
     need_at_least(factor, 1)
-    area = polygon.double_area * factor * factor
-    border = polygon.border_points * factor
+    area, border = area_and_border(polygon.corners)
+    area, border = area * factor * factor, border * factor
     return ((area + border) // 2 + 1, (area - border) // 2 + 1)
 
 
@@ -21,36 +21,41 @@ def count_beside(convex, direction, bound):
     need_convex(convex)
     need_direction(direction)
     need_integer(bound)
-    corners = tuple(images_of(convex.corners, upright_map(direction)))
+    content, six = upright_numbers(direction)
     # At grid points p * x + q * y is a multiple of the content of (p, q).
-    return count_columns(corners, bound // content(direction))
-
-
-def count_columns(corners, bound):
-    """Return the number of grid points with x <= bound of the convex polygon with these corners.
-
-    A column between a bottom and a top side has floor(top) + floor(-bottom) + 1 points.
-    Each side counts the columns from its left end on, without that of its right end.
-    """
+    bound = bound // content
+    corners = images_under(six, convex.corners)
     places = [x for x, y in corners]
-    most = max(places)
-    total = max(0, min(most, bound) - min(places) + 1)
-    for start, end in closed_edges(corners):
-        if start[0] < end[0]:
-            total = total + floors_along((start[0], -start[1]), (end[0], -end[1]), bound)
-        elif start[0] > end[0]:
-            total = total + floors_along(end, start, bound)
-    if bound >= most:
-        heights = [y for x, y in corners if x == most]
-        total = total + max(heights) - min(heights)
+    if bound >= max(places):
+        return convex.total_points
+    least = min(places)
+    if bound < least:
+        return 0
+    return bound - least + 1 + sum_along_sides(corners, bound)
+
+
+def sum_along_sides(corners, bound):
+    """Return the sum of floor(top) + floor(-bottom) over the columns x <= bound that meet the polygon.
+
+    Each side counts the columns from its left end on, without that of its right end.
+    So the bound must be less than the x of some corner.
+    """
+    total = 0
+    a, b = corners[-1]
+    for c, d in corners:
+        # The bottom sides run to the right, the top sides to the left.
+        if a < c and a <= bound:
+            total = total + floors_along(c - a, -b, b - d, bound - a + 1)
+        elif c < a and c <= bound:
+            total = total + floors_along(a - c, d, b - d, bound - c + 1)
+        a, b = c, d
     return total
 
 
-def floors_along(left, right, bound):
-    """Return the sum of floor(y) over the points (x, y) of the segment with whole x <= bound.
-
-    The right end does not count.
-    """
-    run = right[0] - left[0]
-    columns = max(0, min(run, bound - left[0] + 1))
-    return columns * left[1] + floor_sum(columns, right[1] - left[1], 0, run)
+def floors_along(run, height, rise, columns):
+    """Return the sum of floor(height + rise * i / run) for i from 0 on, of so many columns, at most run."""
+    if columns < run:
+        return columns * height + sum_of_floors(columns, rise, 0, run)
+    # Over a whole side the rests of rise * i are the multiples of the common divisor,
+    # each equally often.
+    return run * height + (rise * (run - 1) - run + common_divisor(rise, run)) // 2

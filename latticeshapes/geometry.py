@@ -69,7 +69,22 @@ def goes_round_once(steps, turns):
 
 def double_area_of(corners):
     """Return twice the area, negative if the corners run clockwise."""
-    return sum([a * d - b * c for (a, b), (c, d) in closed_edges(corners)])
+    return sum([(a + c) * (d - b) for (a, b), (c, d) in zip(corners, corners[1:] + corners[:1])])
+
+
+def area_and_border(corners):
+    """Return twice the area and the number of grid points on the border, counterclockwise."""
+    area = border = 0
+    a, b = corners[-1]
+    for c, d in corners:
+        x, y = c - a, d - b
+        area = area + (a + c) * y
+        # Euclid's algorithm is written out, as it mostly ends after a few steps.
+        while y != 0:
+            x, y = y, x % y
+        border = border + abs(x)
+        a, b = c, d
+    return (area, border)
 
 
 def first_meeting(corners):

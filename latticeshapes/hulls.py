@@ -2,7 +2,7 @@
 
 from latticeshapes.errors import InvalidPolygon, LimitExceeded
 from latticeshapes.geometry import turn
-from latticeshapes.points import is_point
+from latticeshapes.points import first_wrong_point
 from latticeshapes.polygons import ConvexPolygon, Polygon
 
 
@@ -27,11 +27,9 @@ def need_points(points):
     """Raise InvalidPolygon for a value that is not a row of at least one point."""
     if not isinstance(points, (list, tuple)):
         raise InvalidPolygon(None)
-    for position, point in enumerate(points):
-        if not is_point(point):
-            raise InvalidPolygon(position)
-    if len(points) == 0:
-        raise InvalidPolygon(None)
+    position = first_wrong_point(points)
+    if position is not None or len(points) == 0:
+        raise InvalidPolygon(position)
 
 
 def need_few_corners(corners):

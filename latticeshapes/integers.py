@@ -10,8 +10,16 @@ def is_integer(value):
 
 def need_integer(value):
     """Raise InvalidInteger for a value that is not an integer."""
-    if not is_integer(value):
+    if not isinstance(value, int) or value is True or value is False:
         raise InvalidInteger("an integer is needed")
+
+
+def need_integers(numbers):
+    """Raise InvalidInteger if one of the values is not an integer."""
+    # Written out once more, since a call for each of many numbers takes longer than the check.
+    for number in numbers:
+        if not isinstance(number, int) or number is True or number is False:
+            raise InvalidInteger("an integer is needed")
 
 
 def need_at_least(value, least):
@@ -23,8 +31,7 @@ def need_at_least(value, least):
 
 def greatest_divisor(*numbers):
     """Return the greatest common divisor of the integers, 0 for none or zeros."""
-    for number in numbers:
-        need_integer(number)
+    need_integers(numbers)
     divisor = 0
     for number in numbers:
         divisor = common_divisor(divisor, number)
@@ -38,34 +45,69 @@ def common_divisor(a, b):
     return abs(a)
 
 
-def bezout(a, b):
-    """Return (u, v) for which u * a + v * b is the greatest common divisor."""
-    u, next_u = 1, 0
-    v, next_v = 0, 1
+def extended_divisor(a, b):
+    """Return (g, u, v), the greatest common divisor g and u * a + v * b == g, not both 0."""
+    if b == 0:
+        return (a, 1, 0) if a > 0 else (-a, -1, 0)
+    x, y = a, b
+    # The first step of Euclid's algorithm is done; v follows from u at the end.
+    a, b = b, a % b
+    u, next_u = 0, 1
     while b != 0:
-        quotient = a // b
-        a, b = b, a - quotient * b
-        u, next_u = next_u, u - quotient * next_u
-        v, next_v = next_v, v - quotient * next_v
+        u, next_u = next_u, u - a // b * next_u
+        a, b = b, a % b
     if a < 0:
-        return (-u, -v)
-    return (u, v)
+        a, u = -a, -u
+    return (a, u, (a - u * x) // y)
 
 
 def floor_sum(count, a, b, m):
     """Return the sum of (a * i + b) // m for i from 0 to count - 1."""
-    need_at_least(count, 0)
-    need_integer(a)
-    need_integer(b)
-    need_at_least(m, 1)
-    total = 0
+    # Written out, since a loop over the four numbers takes as long as a short sum.
+    if not (isinstance(count, int) and isinstance(a, int) and isinstance(b, int) and isinstance(m, int)):
+        raise InvalidInteger("integers are needed")
+    if count is True or count is False or a is True or a is False or b is True or b is False or m is True or m is False:
+        raise InvalidInteger("integers are needed")
+    if count < 0 or m < 1:
+        raise InvalidInteger("a greater integer is needed")
+    return sum_of_floors(count, a, b, m)
+
+
+def sum_of_floors(count, a, b, m):
+    """Return the floor sum of numbers that have been checked already.
+
+    With a and b below m the terms count grid points under a line. Counting these by
+    rows instead of columns gives another floor sum, with m and a in place of a and m,
+    (a * count + b) // m in place of count and what this division leaves in place of b.
+    So a and m run through the remainders of Euclid's algorithm. Two rests run beside
+    them, that of b and that of the division: each is always divided by the next
+    remainder, and their quotients give the next count from the last two. With this,
+    most of twice the sum, that of count * ((count - 1) * (a // m) + 2 * (b // m)),
+    cancels out, and no long products and quotients are needed.
+    """
+    k = b // m
+    doubled = count * ((count - 1) * (a // m) + k + k)
+    a, b = a % m, b % m
+    top = a * count + b
+    before, count = count, top // m
+    if count == 0:
+        return doubled // 2
+    doubled = doubled + before * count - before - count
+    rest, other = top % m, b
     while count > 0:
-        total = total + count * (count - 1) // 2 * (a // m) + count * (b // m)
+        a, m = m, a
+        before = before - a // m * count
+        if rest >= m:
+            k = rest // m
+            rest = rest % m
+            before = before - k
+            doubled = doubled + (count + 1) * k
+        if other >= m:
+            k = other // m
+            other = other % m
+            before = before + k
+            doubled = doubled + (count - 1) * k
+        before, count = count, before
+        rest, other = other, rest
         a = a % m
-        b = b % m
-        # With a and b below m the terms count grid points under a line.
-        # Counting these by rows instead of columns gives a floor sum in which
-        # a and m have changed places, as in Euclid's algorithm.
-        top = a * count + b
-        count, b, a, m = top // m, top % m, m, a
-    return total
+    return (doubled + before) // 2

@@ -2,7 +2,7 @@
 
 from latticeshapes.errors import LimitExceeded
 from latticeshapes.geometry import closed_edges
-from latticeshapes.maps import images_of, upright_map
+from latticeshapes.maps import images_under, inverted, upright_numbers
 from latticeshapes.polygons import need_convex
 from latticeshapes.widths import least_width
 
@@ -26,10 +26,10 @@ def listed_points(convex):
     width meet it, even if its corners are far apart.
     """
     width, directions = least_width(convex)
-    grid_map = upright_map(directions[0])
-    corners = tuple(images_of(convex.corners, grid_map))
+    content, six = upright_numbers(directions[0])
+    corners = tuple(images_under(six, convex.corners))
     points = [(x, y) for x, low, high in column_ends(corners) for y in range(low, high + 1)]
-    return sorted(images_of(points, grid_map.inverse()))
+    return sorted(images_under(inverted(six), points))
 
 
 def column_ends(corners):

@@ -1,10 +1,17 @@
 """Grid maps: integer maps of the plane that have an integer inverse."""
 
 from latticeshapes.errors import InvalidMap
-from latticeshapes.integers import bezout, need_integer
-from latticeshapes.points import need_point, primitive_part
+from latticeshapes.integers import extended_divisor, need_integer, need_integers
+from latticeshapes.points import need_point
 
 IDENTITY = (1, 0, 0, 1, 0, 0)
+
+
+class SoundNumbers:
+    """Six numbers that are known to give a grid map; GridMap takes them in place of a."""
+
+    def __init__(self, sound):
+        self.sound = sound
 
 
 class GridMap:
@@ -13,12 +20,12 @@ class GridMap:
     MAX_ORDER = 6
 
     def __init__(self, a, b, c, d, e=0, f=0):
-        six = (a, b, c, d, e, f)
-        for number in six:
-            need_integer(number)
-        if determinant_of(six) not in (1, -1):
-            raise InvalidMap("the determinant must be 1 or -1")
-        self.six = six
+        if isinstance(a, SoundNumbers):
+            self.six = a.sound
+        else:
+            self.six = (a, b, c, d, e, f)
+            need_integers(self.six)
+            need_determinant(self.six)
 
     @property
     def numbers(self):
@@ -44,7 +51,7 @@ class GridMap:
     def apply(self, point):
         """Return the image of the point."""
         need_point(point)
-        return images_of([point], self)[0]
+        return images_under(self.six, [point])[0]
 
     def then(self, *others):
         """Return the map that does this map first and the others after it."""
@@ -53,12 +60,11 @@ class GridMap:
         six = self.six
         for other in others:
             six = composed(six, other.six)
-        return GridMap(*six)
+        return made_map(six)
 
     def inverse(self):
         """Return the map that takes this map back."""
-        six = inverted(self.six)
-        return GridMap(*six)
+        return made_map(inverted(self.six))
 
     def power(self, exponent):
         """Return the map that does this map exponent times."""
@@ -66,8 +72,7 @@ class GridMap:
         six = self.six
         if exponent < 0:
             six = inverted(six)
-        six = repeated(six, abs(exponent))
-        return GridMap(*six)
+        return made_map(repeated(six, abs(exponent)))
 
     def order(self):
         """Return the least positive exponent whose power is the identity, or None."""
@@ -96,21 +101,32 @@ def need_map(value):
         raise InvalidMap("a grid map is needed")
 
 
-def images_of(points, grid_map):
-    """Return the list of the images of points that have been checked already."""
-    a, b, c, d, e, f = grid_map.six
+def need_determinant(six):
+    """Raise InvalidMap if the determinant is neither 1 nor -1."""
+    if determinant_of(six) not in (1, -1):
+        raise InvalidMap("the determinant must be 1 or -1")
+
+
+def made_map(six):
+    """Return the grid map of six numbers that need no check."""
+    return GridMap(SoundNumbers(six), 0, 0, 0)
+
+
+def images_under(six, points):
+    """Return the list of the images of the points under the map with these six numbers."""
+    a, b, c, d, e, f = six
     return [(a * x + b * y + e, c * x + d * y + f) for x, y in points]
 
 
-def upright_map(direction):
-    """Return a proper map that makes upright the lines on which p * x + q * y is constant.
+def upright_numbers(direction):
+    """Return (g, six), the content of the direction (p, q) and the numbers of a proper map.
 
-    It carries (x, y) to a point whose first coordinate is p * x + q * y divided
-    by the content of the direction (p, q).
+    The map makes upright the lines on which p * x + q * y is constant: it carries
+    (x, y) to a point whose first coordinate is p * x + q * y divided by g.
     """
-    p, q = primitive_part(direction)
-    u, v = bezout(p, q)
-    return GridMap(p, q, -v, u)
+    p, q = direction
+    g, u, v = extended_divisor(p, q)
+    return (g, (p // g, q // g, -v, u, 0, 0))
 
 
 def determinant_of(six):

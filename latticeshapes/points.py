@@ -7,11 +7,21 @@ from latticeshapes.integers import common_divisor
 
 def is_point(value):
     """Return whether the value is a tuple of two integers."""
-    if not isinstance(value, tuple) or len(value) != 2:
-        return False
-    x, y = value
+    return first_wrong_point([value]) is None
+
+
+def first_wrong_point(values):
+    """Return the index of the first value that is not a point, or None."""
     # Written out instead of calling is_integer, since every corner of a polygon passes here.
-    return isinstance(x, int) and isinstance(y, int) and not isinstance(x, bool) and not isinstance(y, bool)
+    for position, value in enumerate(values):
+        if not isinstance(value, tuple) or len(value) != 2:
+            return position
+        x, y = value
+        if not isinstance(x, int) or not isinstance(y, int):
+            return position
+        if x is True or x is False or y is True or y is False:
+            return position
+    return None
 
 
 def need_point(value):

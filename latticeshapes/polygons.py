@@ -2,24 +2,26 @@
 
 from latticeshapes.errors import CrossingEdges, DegenerateCorner, InvalidPolygon, NotConvex
 from latticeshapes.geometry import (
-    closed_edges, corner_turns, double_area_of, edge_steps, first_meeting, goes_round_once, on_segment, turn)
-from latticeshapes.integers import common_divisor, greatest_divisor
-from latticeshapes.maps import images_of, need_map
-from latticeshapes.points import is_point, need_point
+    area_and_border, closed_edges, corner_turns, double_area_of, edge_steps, first_meeting, goes_round_once,
+    on_segment, turn)
+from latticeshapes.integers import greatest_divisor
+from latticeshapes.maps import images_under, need_map
+from latticeshapes.points import first_wrong_point, need_point
 
 LEAST_CORNERS = 3
 
 
 class Outline:
-    """The corners of a polygon in the order kept, which need no check any more.
+    """What is known of corners that need no check any more.
 
-    The classes of polygons take one in the place of corners, so that what has
-    been found out about the corners is not found out again.
+    The classes of polygons take one in the place of corners, so that what has been
+    found out is not found out again: (kept, turns_left, sides), the corners in the
+    order kept, whether all of them turn left, and the sides as (steps, turns), the
+    steps from corner to corner and the turns where they begin, or None if not known.
     """
 
-    def __init__(self, kept, turns_left):
-        self.kept = kept
-        self.turns_left = turns_left
+    def __init__(self, known):
+        self.known = known
 
 
 class Polygon:
@@ -28,9 +30,7 @@ class Polygon:
     MAX_CORNERS = 60
 
     def __init__(self, corners):
-        outline = outline_of(corners)
-        self.kept = outline.kept
-        self.turns_left = outline.turns_left
+        self.kept, self.turns_left, self.sides = known_of(corners)
 
     @property
     def corners(self):
@@ -45,17 +45,20 @@ class Polygon:
     @property
     def border_points(self):
         """The number of grid points on the border."""
-        return sum([common_divisor(x, y) for x, y in edge_steps(self.kept)])
+        area, border = area_and_border(self.kept)
+        return border
 
     @property
     def inner_points(self):
         """The number of grid points inside."""
-        return (self.double_area - self.border_points + 2) // 2
+        area, border = area_and_border(self.kept)
+        return (area - border + 2) // 2
 
     @property
     def total_points(self):
         """The number of grid points on the border and inside."""
-        return (self.double_area + self.border_points + 2) // 2
+        area, border = area_and_border(self.kept)
+        return (area + border + 2) // 2
 
     @property
     def middle(self):
@@ -100,8 +103,7 @@ class Polygon:
 
     def moved(self, grid_map):
         """Return the image of the polygon under the map."""
-        outline = image_outline(self, grid_map)
-        return Polygon(outline)
+        return Polygon(image_outline(self, grid_map))
 
 
 class ConvexPolygon(Polygon):
@@ -110,7 +112,7 @@ class ConvexPolygon(Polygon):
     def __init__(self, corners):
         Polygon.__init__(self, corners)
         if not self.turns_left:
-            raise NotConvex(first_right_turn(self.kept))
+            raise NotConvex(first_right_turn(self))
 
     def __eq__(self, other):
         return isinstance(other, Polygon) and self.kept == other.kept
@@ -120,16 +122,16 @@ class ConvexPolygon(Polygon):
 
     def moved(self, grid_map):
         """Return the image of the polygon under the map, a convex one too."""
-        outline = image_outline(self, grid_map)
-        return ConvexPolygon(outline)
+        return ConvexPolygon(image_outline(self, grid_map))
 
 
 def to_polygon(corners):
     """Return a ConvexPolygon if the polygon is convex, otherwise a Polygon."""
-    outline = outline_of(corners)
-    if outline.turns_left:
-        return ConvexPolygon(outline)
-    return Polygon(outline)
+    known = known_of(corners)
+    kept, turns_left, sides = known
+    if turns_left:
+        return ConvexPolygon(Outline(known))
+    return Polygon(Outline(known))
 
 
 def need_polygon(value):
@@ -144,21 +146,29 @@ def need_convex(value):
         raise InvalidPolygon(None)
 
 
+def sides_of(polygon):
+    """Return (steps, turns) of the edges of the polygon and of the corners where they begin."""
+    if polygon.sides is None:
+        steps = edge_steps(polygon.corners)
+        return (steps, corner_turns(steps))
+    return polygon.sides
+
+
 def need_corners(corners):
     """Raise InvalidPolygon for a value that is not a row of 3 to 60 points."""
     if not isinstance(corners, (list, tuple)):
         raise InvalidPolygon(None)
     if not LEAST_CORNERS <= len(corners) <= Polygon.MAX_CORNERS:
         raise InvalidPolygon(None)
-    for position, corner in enumerate(corners):
-        if not is_point(corner):
-            raise InvalidPolygon(position)
+    position = first_wrong_point(corners)
+    if position is not None:
+        raise InvalidPolygon(position)
 
 
-def outline_of(corners):
-    """Return the outline of the corners; raise what the document says of wrong ones."""
+def known_of(corners):
+    """Return (kept, turns_left, sides) of an Outline; raise what the document says of wrong corners."""
     if isinstance(corners, Outline):
-        return corners
+        return corners.known
     need_corners(corners)
     given = tuple(corners)
     steps = edge_steps(given)
@@ -171,7 +181,10 @@ def outline_of(corners):
         need_apart_edges(given)
     start = given.index(min(given))
     # The least corner sticks out, so it turns the way the corners go round.
-    return Outline(kept_order(given, start, turns[start] > 0), always_same)
+    if turns[start] > 0:
+        sides = (steps[start:] + steps[:start], turns[start:] + turns[:start])
+        return (given[start:] + given[:start], always_same, sides)
+    return (backwards(given, start), always_same, None)
 
 
 def need_apart_edges(corners):
@@ -185,17 +198,15 @@ def need_apart_edges(corners):
         raise CrossingEdges(first, second)
 
 
-def kept_order(corners, start, leftward):
-    """Return the corners counterclockwise, beginning with the one at start."""
-    if not leftward:
-        corners = corners[::-1]
-        start = len(corners) - 1 - start
-    return corners[start:] + corners[:start]
+def backwards(corners, start):
+    """Return the corners in the other direction, beginning with the one at start."""
+    return corners[start::-1] + corners[:start:-1]
 
 
-def first_right_turn(corners):
+def first_right_turn(polygon):
     """Return the index of the first corner that does not turn left, or None."""
-    for position, bend in enumerate(corner_turns(edge_steps(corners))):
+    steps, turns = sides_of(polygon)
+    for position, bend in enumerate(turns):
         if bend < 0:
             return position
     return None
@@ -216,6 +227,10 @@ def is_right_of(point, start, end):
 def image_outline(polygon, grid_map):
     """Return the outline of the image of the polygon, which is sound and convex as before."""
     need_map(grid_map)
-    images = tuple(images_of(polygon.corners, grid_map))
+    images = tuple(images_under(grid_map.six, polygon.corners))
     start = images.index(min(images))
-    return Outline(kept_order(images, start, grid_map.is_proper), polygon.is_convex)
+    if grid_map.is_proper:
+        kept = images[start:] + images[:start]
+    else:
+        kept = backwards(images, start)
+    return Outline((kept, polygon.is_convex, None))

@@ -364,3 +364,58 @@ def star(count):
 def comb(count):
     """A row of corners with upright teeth."""
     return [(0, 0), (2 * count, -1)] + [(2 * count - 2 * at, 5 + at % 2 * 60) for at in range(count - 2)]
+
+
+def zigzag(count):
+    """A row of corners of which most pairs of edges look the same, so that many candidates begin alike."""
+    row = [(x, x % 2 * 5) for x in range(count - 2)]
+    return row + [(count + 2, -306), (-5, -622)]
+
+
+def wheel(turned, reaches):
+    """A row of corners around (0, 0): those of a sector, and their images under a map of a finite order."""
+    count = len(reaches)
+    row = [(reach * (count - at), reach * at) for at, reach in enumerate(reaches)]
+    whole = []
+    while row[0] not in whole:
+        whole += row
+        row = moved_by(turned, row)
+    return whole
+
+
+class Counted(int):
+    """An integer that counts the arithmetic in which it and all that comes from it take part."""
+
+    done = [0]
+
+
+def counting(name):
+    """The method of integers with this name, counted."""
+    plain = getattr(int, name)
+
+    def method(self, *others):
+        result = plain(self, *others)
+        Counted.done[0] += 1
+        if isinstance(result, tuple):
+            return tuple(Counted(part) for part in result)
+        return Counted(result)
+
+    return method
+
+
+for sign in ("add", "sub", "mul", "floordiv", "mod", "divmod"):
+    setattr(Counted, f"__{sign}__", counting(f"__{sign}__"))
+    setattr(Counted, f"__r{sign}__", counting(f"__r{sign}__"))
+for sign in ("neg", "abs"):
+    setattr(Counted, f"__{sign}__", counting(f"__{sign}__"))
+
+
+def counted_row(row):
+    return [(Counted(x), Counted(y)) for x, y in row]
+
+
+def work_of(call, *values, **named):
+    """How many sums, products and quotients the call makes of the counted numbers in its arguments."""
+    Counted.done[0] = 0
+    call(*values, **named)
+    return Counted.done[0]

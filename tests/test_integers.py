@@ -3,7 +3,7 @@ import random
 import unittest
 
 from latticeshapes.errors import InvalidInteger
-from latticeshapes.integers import bezout, floor_sum, greatest_divisor, is_integer
+from latticeshapes.integers import extended_divisor, floor_sum, greatest_divisor, is_integer
 from tests.helpers import BIG, NO_INTEGERS, NO_POINTS, ShapeTestCase, at_once
 
 
@@ -77,12 +77,23 @@ class GreatestDivisorTest(ShapeTestCase):
         self.assertEqual(numbers, [4, 6])
 
 
-class BezoutTest(ShapeTestCase):
-    def test_it_combines_to_the_divisor(self):
+class ExtendedDivisorTest(ShapeTestCase):
+    def check(self, a, b):
+        g, u, v = extended_divisor(a, b)
+        self.same_value((g, u * a + v * b), (math.gcd(a, b), g))
+
+    def test_small_numbers(self):
         for a in range(-20, 21):
             for b in range(-20, 21):
-                u, v = bezout(a, b)
-                self.same_value(u * a + v * b, math.gcd(a, b))
+                if (a, b) != (0, 0):
+                    self.check(a, b)
+
+    def test_large_numbers(self):
+        chance = random.Random(8)
+        with at_once():
+            for _ in range(200):
+                common = chance.randint(1, 10 ** 25)
+                self.check(common * chance.randint(-10 ** 35, 10 ** 35), common * chance.randint(1, 10 ** 35))
 
 
 class FloorSumTest(ShapeTestCase):
