@@ -11,6 +11,7 @@ def are_equivalent(one, other, *, proper=False):
     need_polygon(other)
     return len(one) == len(other) and normal_form(one, proper=proper) == normal_form(other, proper=proper)
 
+
 def maps_between(one, other, *, proper=False):
     """Return the list of all maps that carry the first polygon onto the second, in order."""
     need_polygon(one)

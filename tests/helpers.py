@@ -419,3 +419,81 @@ def work_of(call, *values, **named):
     Counted.done[0] = 0
     call(*values, **named)
     return Counted.done[0]
+
+
+def inside_points(corners):
+    """The grid points of a convex row of corners that do not lie on its border, one by one."""
+    sides = list(zip(corners, corners[1:] + corners[:1]))
+    return [point for point in box_around(corners, 0) if all(det([a, b, point]) > 0 for a, b in sides)]
+
+
+def small_triangles(corners):
+    """All triangles of grid points of the convex polygon with twice the area 1."""
+    return [three for three in itertools.combinations(sorted(points_of(corners)), 3) if abs(det(three)) == 1]
+
+
+def is_apart(one, other):
+    """Whether two triangles have no more than border points in common: a side of one parts them."""
+    for first, second in ((one, other), (other, one)):
+        for a, b, c in ((0, 1, 2), (1, 2, 0), (2, 0, 1)):
+            side = det([first[a], first[b], first[c]])
+            if all(det([first[a], first[b], point]) * side <= 0 for point in second):
+                return True
+    return False
+
+
+def all_triangulations(corners):
+    """The fine triangulations of a small convex polygon, found by putting triangles side by side."""
+    triangles = small_triangles(corners)
+    size = signed_area(corners)
+    found, rows = [], [((), triangles)]
+    while rows:
+        chosen, free = rows.pop()
+        if len(chosen) == size:
+            found.append(list(chosen))
+        for at, one in enumerate(free):
+            rest = [other for other in free[at + 1:] if is_apart(one, other)]
+            if len(chosen) + 1 + len(rest) >= size:
+                rows.append((chosen + (one,), rest))
+    return sorted(found)
+
+
+def edges_of(triangles):
+    """Each edge of the triangles with its opposite corners."""
+    beside = {}
+    for three in triangles:
+        for corner in three:
+            beside.setdefault(tuple(sorted(set(three) - {corner})), []).append(corner)
+    return beside
+
+
+def parallelograms(triangles):
+    """The edges that can be flipped, each with the other diagonal."""
+    found = {}
+    for ((a, b), (c, d)), corners in edges_of(triangles).items():
+        if len(corners) == 2 and (a + c, b + d) == tuple(map(sum, zip(*corners))):
+            found[((a, b), (c, d))] = tuple(sorted(corners))
+    return found
+
+
+def flipped(triangles, edge):
+    """The triangles after the flip of the edge."""
+    other = parallelograms(triangles)[edge]
+    kept = [three for three in triangles if not set(edge) <= set(three)]
+    return sorted(kept + [tuple(sorted((*other, end))) for end in edge])
+
+
+def circle_side(a, b, p, q):
+    """Positive if q lies inside the circle through the three others, 0 if on it."""
+    rows = [(x - q[0], y - q[1], (x - q[0]) ** 2 + (y - q[1]) ** 2) for x, y in (a, b, p)]
+    (d, e, f), (g, h, i), (j, k, m) = rows
+    return (d * (h * m - i * k) - e * (g * m - i * j) + f * (g * k - h * j)) * det([a, b, p])
+
+
+def is_round(triangles):
+    """Whether every edge that can be flipped is good."""
+    for (a, b), (p, q) in parallelograms(triangles).items():
+        side = circle_side(a, b, p, q)
+        if side > 0 or side == 0 and min(a, b, p, q) not in (a, b):
+            return False
+    return True

@@ -6,8 +6,10 @@ import unittest
 
 from latticeshapes.counting import count_beside, multiple_counts
 from latticeshapes.errors import LimitExceeded
+from latticeshapes.flips import accepts_flips, flip, flip_path, flippable_edges
 from latticeshapes.forms import candidates, normal_form
 from latticeshapes.hulls import convex_hull, hull_chain
+from latticeshapes.layers import inner_hull, layers
 from latticeshapes.listing import grid_points
 from latticeshapes.maps import GridMap
 from latticeshapes.matching import are_equivalent, canonical_map, first_difference, maps_between
@@ -15,6 +17,7 @@ from latticeshapes.polygons import ConvexPolygon, Polygon, to_polygon
 from latticeshapes.splits import is_indecomposable, primitive_pieces, splits
 from latticeshapes.sums import add_chain, add_polygons, is_chain, mixed_area, remainder
 from latticeshapes.symmetry import group_name, orbit, symmetries
+from latticeshapes.triangulations import count_triangulations, is_fine_triangulation, round_triangulation
 from latticeshapes.widths import accepts_width, least_width, width_certificate, width_in
 from tests.helpers import (
     ARROW, BIG_MAPS, CHIRAL, COMB, FAR, HEXAGON, SHAPES, SQUARE, TRIANGLE, ShapeTestCase, at_once, comb,
@@ -46,7 +49,20 @@ def named_calls():
         (grid_points, {"convex": wide}), (mixed_area, {"one": wide, "other": convex}),
         (is_chain, {"value": ((0, 0), (1, 0))}), (add_chain, {"convex": wide, "chain": ((0, 0), (1, 0))}),
         (remainder, {"whole": wide, "part": convex}), (primitive_pieces, {"convex": wide}),
-        (splits, {"convex": wide}), (is_indecomposable, {"convex": wide})]
+        (splits, {"convex": wide}), (is_indecomposable, {"convex": wide}),
+        (inner_hull, {"convex": wide}), (layers, {"convex": wide}),
+        (is_fine_triangulation, {"convex": convex, "value": cut(0)}), (round_triangulation, {"convex": wide}),
+        (count_triangulations, {"convex": wide}), (flippable_edges, {"convex": convex, "triangulation": cut(1)}),
+        (flip, {"convex": convex, "triangulation": cut(0), "edge": ((0, 0), (1, 1))}),
+        (flip_path, {"convex": convex, "start": cut(0), "end": cut(1)}),
+        (accepts_flips, {"convex": convex, "start": cut(0), "edges": [((0, 0), (1, 1))], "end": cut(1)})]
+
+
+def cut(way):
+    """One of the two fine triangulations of the square, a new list."""
+    return [
+        [((0, 0), (0, 1), (1, 1)), ((0, 0), (1, 0), (1, 1))],
+        [((0, 0), (0, 1), (1, 0)), ((0, 1), (1, 0), (1, 1))]][way]
 
 
 def value_of(result):
@@ -110,9 +126,25 @@ class EquivalentPolygonsTest(ShapeTestCase):
                 self.assertEqual(len(splits(image)), len(splits(convex)))
                 self.assertEqual(len(list(grid_points(image))), len(list(grid_points(convex))))
                 self.assertEqual(mixed_area(image, image), mixed_area(convex, convex))
+                self.assertEqual(len(layers(image)), len(layers(convex)))
                 self.assertEqual(
                     sorted(times for piece, times in primitive_pieces(image)),
                     sorted(times for piece, times in primitive_pieces(convex)))
+
+    def test_fine_triangulations(self):
+        counted = 0
+        for corners in CONVEX:
+            convex = ConvexPolygon(corners)
+            for six in random_maps(2, 5, 145) + BIG_MAPS:
+                image = convex.moved(GridMap(*six))
+                if convex.total_points <= 40:
+                    row = round_triangulation(image)
+                    self.assertEqual(len(row), convex.double_area)
+                    self.assertIs(is_fine_triangulation(image, row), True)
+                if convex.total_points <= 9:
+                    counted += 1
+                    self.assertEqual(count_triangulations(image), count_triangulations(convex))
+        self.assertGreater(counted, 20)
 
     def test_the_numbers_of_symmetries(self):
         for corners in ANY + CONVEX:

@@ -28,6 +28,12 @@ FUNCTIONS = {
         "add_polygons(*polygons)", "mixed_area(one, other)", "is_chain(value)", "add_chain(convex, chain)",
         "remainder(whole, part)"],
     "splits": ["primitive_pieces(convex)", "splits(convex)", "is_indecomposable(convex)"],
+    "layers": ["inner_hull(convex)", "layers(convex)"],
+    "triangulations": [
+        "is_fine_triangulation(convex, value)", "round_triangulation(convex)", "count_triangulations(convex)"],
+    "flips": [
+        "flippable_edges(convex, triangulation)", "flip(convex, triangulation, edge)", "flip_path(convex, start, end)",
+        "accepts_flips(convex, start, edges, end)"],
 }
 # Each class with its own methods and properties as the interface lists them for it.
 METHODS = {
