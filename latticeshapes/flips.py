@@ -3,7 +3,6 @@
 from latticeshapes.errors import InvalidTriangulation, NotFlippable
 from latticeshapes.meshes import Mesh
 from latticeshapes.points import first_wrong_point
-from latticeshapes.polygons import need_convex
 from latticeshapes.triangulations import MOST_POINTS, is_fine_triangulation, need_few_points
 
 

@@ -4,6 +4,9 @@ import copy
 import itertools
 import unittest
 
+from latticeshapes.catalogs import catalog, grown_forms
+from latticeshapes.collection import Collection
+from latticeshapes.console import Console
 from latticeshapes.counting import count_beside, multiple_counts
 from latticeshapes.errors import LimitExceeded
 from latticeshapes.flips import accepts_flips, flip, flip_path, flippable_edges
@@ -17,6 +20,9 @@ from latticeshapes.polygons import ConvexPolygon, Polygon, to_polygon
 from latticeshapes.splits import is_indecomposable, primitive_pieces, splits
 from latticeshapes.sums import add_chain, add_polygons, is_chain, mixed_area, remainder
 from latticeshapes.symmetry import group_name, orbit, symmetries
+from latticeshapes.text_format import (
+    format_integer, format_map, format_point, format_points, format_polygon, parse_integer, parse_map, parse_point,
+    parse_points, parse_polygon)
 from latticeshapes.triangulations import count_triangulations, is_fine_triangulation, round_triangulation
 from latticeshapes.widths import accepts_width, least_width, width_certificate, width_in
 from tests.helpers import (
@@ -55,7 +61,13 @@ def named_calls():
         (count_triangulations, {"convex": wide}), (flippable_edges, {"convex": convex, "triangulation": cut(1)}),
         (flip, {"convex": convex, "triangulation": cut(0), "edge": ((0, 0), (1, 1))}),
         (flip_path, {"convex": convex, "start": cut(0), "end": cut(1)}),
-        (accepts_flips, {"convex": convex, "start": cut(0), "edges": [((0, 0), (1, 1))], "end": cut(1)})]
+        (accepts_flips, {"convex": convex, "start": cut(0), "edges": [((0, 0), (1, 1))], "end": cut(1)}),
+        (grown_forms, {"convex": wide}), (catalog, {"points": 6}),
+        (format_integer, {"number": -5}), (format_point, {"point": (1, -2)}),
+        (format_points, {"points": [(1, -2), (3, 4)]}), (format_polygon, {"polygon": one}),
+        (format_map, {"grid_map": GridMap(1, 2, 0, 1)}), (parse_integer, {"text": "-5"}),
+        (parse_point, {"text": "1,-2"}), (parse_points, {"text": "1,-2 3,4"}), (parse_polygon, {"text": "0,0 1,0 0,1"}),
+        (parse_map, {"text": "[1 0 0 1 0 0]"})]
 
 
 def cut(way):
@@ -127,6 +139,8 @@ class EquivalentPolygonsTest(ShapeTestCase):
                 self.assertEqual(len(list(grid_points(image))), len(list(grid_points(convex))))
                 self.assertEqual(mixed_area(image, image), mixed_area(convex, convex))
                 self.assertEqual(len(layers(image)), len(layers(convex)))
+                if convex.total_points <= 40:
+                    self.same_value(grown_forms(image), grown_forms(convex))
                 self.assertEqual(
                     sorted(times for piece, times in primitive_pieces(image)),
                     sorted(times for piece, times in primitive_pieces(convex)))
@@ -149,6 +163,26 @@ class EquivalentPolygonsTest(ShapeTestCase):
     def test_the_numbers_of_symmetries(self):
         for corners in ANY + CONVEX:
             self.assertIn(len(symmetries(Polygon(corners))), (1, 2, 3, 4, 6, 8, 12))
+
+
+class OtherKindsTest(ShapeTestCase):
+    def test_comparing(self):
+        some = Collection()
+        some.add("a", Polygon(SQUARE))
+        kinds = [
+            GridMap(1, 0, 0, 1), Polygon(SQUARE), some, Console(), None, True, 0, 1, "a", b"a", (), [], {}, {1}, object(),
+            GridMap, Polygon, Collection, tuple(SQUARE), (1, 0, 0, 1, 0, 0), {"a": Polygon(SQUARE)}, ["a"]]
+        for one, other in itertools.permutations(kinds[:3] + kinds[4:], 2):
+            if any(isinstance(value, (GridMap, Polygon, Collection)) for value in (one, other)):
+                self.assertIs(one == other, False)
+                self.assertIs(one != other, True)
+        for one in kinds[:3]:
+            self.assertIs(one == kinds[3], False)
+            self.assertIs(kinds[3] != one, True)
+
+    def test_the_same_for_both_classes_of_polygons(self):
+        self.assertIs(Polygon(SQUARE) == ConvexPolygon(SQUARE[::-1]), True)
+        self.assertIs(Polygon(SQUARE) != ConvexPolygon(WIDE), True)
 
 
 class SixtyCornersTest(ShapeTestCase):

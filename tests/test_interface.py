@@ -34,6 +34,11 @@ FUNCTIONS = {
     "flips": [
         "flippable_edges(convex, triangulation)", "flip(convex, triangulation, edge)", "flip_path(convex, start, end)",
         "accepts_flips(convex, start, edges, end)"],
+    "catalogs": ["grown_forms(convex)", "catalog(points, *, inner=None)"],
+    "text_format": [
+        "format_integer(number)", "format_point(point)", "format_points(points)", "format_polygon(polygon)",
+        "format_map(grid_map)", "parse_integer(text)", "parse_point(text)", "parse_points(text)", "parse_polygon(text)",
+        "parse_map(text)"],
 }
 # Each class with its own methods and properties as the interface lists them for it.
 METHODS = {
@@ -44,11 +49,18 @@ METHODS = {
         "__init__(self, corners)", "__eq__(self, other)", "__repr__(self)", "__len__(self)", "edges(self)",
         "locate(self, point)", "moved(self, grid_map)"],
     ("polygons", "ConvexPolygon"): ["__init__(self, corners)", "__eq__(self, other)", "__repr__(self)"],
+    ("collection", "Collection"): [
+        "__init__(self, *, capacity=20)", "__eq__(self, other)", "__len__(self)", "resize(self, capacity)",
+        "add(self, name, polygon)", "discard(self, name)", "rename(self, old, new)", "move(self, name, grid_map)",
+        "run(self, actions)", "undo(self, *, number=1)", "polygon_of(self, name)", "names(self)", "entries(self)",
+        "classes(self)", "find(self, polygon)", "clone(self)"],
+    ("console", "Console"): ["__init__(self)", "__len__(self)", "execute(self, line)"],
 }
 PROPERTIES = {
     ("maps", "GridMap"): ["numbers", "determinant", "is_proper"],
     ("polygons", "Polygon"): [
         "corners", "double_area", "border_points", "inner_points", "total_points", "middle", "is_convex"],
+    ("collection", "Collection"): ["capacity"],
 }
 ERRORS = [
     "CrossingEdges", "DegenerateCorner", "InvalidAction", "InvalidCommand", "InvalidDirection", "InvalidInteger",
@@ -56,7 +68,9 @@ ERRORS = [
     "LimitExceeded", "NameInUse", "NotConvex", "NotFlippable", "NothingToUndo", "RunFailed", "ShapeError",
     "UnknownName",
 ]
-GENERATORS = [("forms", "candidates"), ("listing", "grid_points"), ("polygons", "Polygon", "edges")]
+GENERATORS = [
+    ("forms", "candidates"), ("listing", "grid_points"), ("polygons", "Polygon", "edges"),
+    ("collection", "Collection", "entries")]
 
 
 def named(module, *names):
@@ -95,6 +109,11 @@ class InterfaceTest(unittest.TestCase):
                 with self.subTest(name, row=row):
                     self.assertIsInstance(named(module, name, row), property)
 
+    def test_only_the_capacity_can_be_set(self):
+        for (module, name), rows in PROPERTIES.items():
+            for row in rows:
+                self.assertEqual(named(module, name, row).fset is not None, row == "capacity")
+
     def test_static_and_class_methods(self):
         self.assertIsInstance(named("maps", "GridMap", "identity"), classmethod)
         self.assertIsInstance(named("maps", "GridMap", "shift"), staticmethod)
@@ -119,7 +138,7 @@ class InterfaceTest(unittest.TestCase):
     def test_each_module_can_be_imported_first(self):
         root = pathlib.Path(__file__).resolve().parents[1]
         settings = {**os.environ, "PYTHONPATH": str(root), "PYTHONDONTWRITEBYTECODE": "1"}
-        for module in ["errors", "maps", *FUNCTIONS]:
+        for module in ["errors", "maps", "collection", "console", *FUNCTIONS]:
             done = subprocess.run(
                 [sys.executable, "-W", "error", "-c", f"import latticeshapes.{module}"], env=settings, cwd=root,
                 capture_output=True, text=True, check=False)

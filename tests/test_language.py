@@ -208,7 +208,7 @@ class LanguageTest(unittest.TestCase):
         self.assertEqual(methods & attributes, set())
         self.assertLessEqual({name for name in methods if name.startswith("_")}, set(DOUBLE))
         for node in nodes(tree, ast.Attribute):
-            self.assertIn(node.attr, methods | attributes | set(METHODS))
+            self.assertIn(node.attr, methods | attributes | set(METHODS + DECORATORS))
 
     @on_each_file
     def test_errors_are_created_where_they_are_raised(self, text, tree):
