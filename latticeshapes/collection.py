@@ -5,7 +5,6 @@ from latticeshapes.errors import (
     UnknownName)
 from latticeshapes.forms import normal_form
 from latticeshapes.integers import is_integer, need_at_least
-from latticeshapes.maps import need_map
 from latticeshapes.polygons import need_polygon
 
 LONGEST_NAME = 8
@@ -73,7 +72,6 @@ class Collection:
     def move(self, name, grid_map):
         """Replace the polygon by its image under the map."""
         self.need_kept(name)
-        need_map(grid_map)
         self.change([(name, self.shapes[name].moved(grid_map))])
 
     def run(self, actions):
@@ -133,7 +131,6 @@ class Collection:
 
     def find(self, polygon):
         """Return the sorted list of the names of the polygons that are equivalent to this one."""
-        need_polygon(polygon)
         form = normal_form(polygon)
         return [name for name in self.names() if normal_form(self.shapes[name]) == form]
 

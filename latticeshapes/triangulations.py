@@ -84,16 +84,14 @@ def are_inside(convex, triangles):
 def are_joined(convex, triangles):
     """Return whether triangles inside of the polygon lie on both sides of each edge that is not on the border.
 
-    If never two of them lie on the same side of an edge, all places of the polygon are
-    covered equally often, and with the right number of triangles just once.
+    If so, no place of the polygon is left out, and with the right number of triangles
+    each one is covered just once.
     """
     ways = {}
     for a, b, c in triangles:
         if turn(a, b, c) < 0:
             b, c = c, b
         for way in ((a, b), (b, c), (c, a)):
-            if way in ways:
-                return False
             ways[way] = True
     single = [(start, end) for start, end in ways if (end, start) not in ways]
     return all([is_on_border(convex, start, end) for start, end in single])

@@ -459,7 +459,7 @@ class RunTest(CollectionTestCase):
                 ("rename", "a", "b", "c"), ("move", "a"), ("move", "a", MAPS[0], 1), ("Add", "b", POLYGONS[0]),
                 ("undo", 1), ("drop", "a"), ("run", []), ("", "a"), (None, "a"), (True, "a"), (b"discard", "a"),
                 (["discard"], "a"), ({}, "a"), (("discard",), "a"), ("discard ", "a"), ("resize", 5), (1, 2, 3),
-                (set(), 1), (object(), "a")]:
+                (set(), 1), (object(), "a"), ("undo",), ("",), ("a",), (None,), (0,)]:
             befores = [[], [("discard", "a")], [("discard", "x"), ("add", 1, 2)]]
             for before, after in itertools.product(befores, [[], [None]]):
                 actions = [*before, wrong, *after]

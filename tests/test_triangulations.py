@@ -11,7 +11,7 @@ from latticeshapes.polygons import ConvexPolygon
 from latticeshapes.triangulations import count_triangulations, is_fine_triangulation, round_triangulation
 from tests.helpers import (
     BIG, BIG_MAPS, FAR, HEXAGON, NO_CONVEX, SQUARE, TRIANGLE, ShapeTestCase, all_triangulations, at_once, circle_side,
-    convex_place, edges_of, flipped, is_round, kept_corners, many_corners, moved_by, parallelograms, points_of,
+    convex_place, det, edges_of, flipped, is_round, kept_corners, many_corners, moved_by, parallelograms, points_of,
     random_hulls, random_maps, signed_area, small_triangles)
 
 TRAPEZOID = ((0, 0), (3, 0), (1, 1), (0, 1))
@@ -103,6 +103,13 @@ class IsFineTest(ShapeTestCase):
                 image = images_of((1, 0, 0, 1, *shift), rows[0])
                 self.rejected(ConvexPolygon(corners), image)
                 self.assertIs(is_fine_triangulation(ConvexPolygon(moved_by((1, 0, 0, 1, *shift), corners)), image), True)
+
+    def test_outside_but_beside_the_same_lines(self):
+        # The six points of the star, each cut off by a side of the hexagon.
+        tips = [(x + p, y + q) for (x, y), (p, q) in zip(HEXAGON, HEXAGON[1:] + HEXAGON[:1])]
+        row = sorted(tuple(sorted(three)) for three in zip(tips, HEXAGON, HEXAGON[1:] + HEXAGON[:1]))
+        self.assertEqual({abs(det(three)) for three in row}, {1})
+        self.rejected(ConvexPolygon(HEXAGON), row)
 
     def test_overlapping(self):
         self.rejected(ConvexPolygon(SQUARE), [((0, 0), (0, 1), (1, 0)), ((0, 0), (1, 0), (1, 1))])
