@@ -73,41 +73,50 @@ def floor_sum(count, a, b, m):
     return sum_of_floors(count, a, b, m)
 
 
-def sum_of_floors(count, a, b, m):
-    """Return the floor sum of numbers that have been checked already.
+# With a and b below m the terms of a floor sum count grid points under a line. Counting
+# these by rows instead of columns gives another floor sum, with m and a in place of a and
+# m, (a * count + b) // m in place of count and what this division leaves in place of b.
+# So a and m run through the remainders of Euclid's algorithm. Two rests run beside them,
+# that of b and that of the division: each is always divided by the next remainder, and
+# their quotients give the next count from the last two. With this, most of twice the sum,
+# that of count * ((count - 1) * (a // m) + 2 * (b // m)), cancels out, and no long
+# products and quotients are needed. The loop does two steps, so that nothing has to
+# change places.
 
-    With a and b below m the terms count grid points under a line. Counting these by
-    rows instead of columns gives another floor sum, with m and a in place of a and m,
-    (a * count + b) // m in place of count and what this division leaves in place of b.
-    So a and m run through the remainders of Euclid's algorithm. Two rests run beside
-    them, that of b and that of the division: each is always divided by the next
-    remainder, and their quotients give the next count from the last two. With this,
-    most of twice the sum, that of count * ((count - 1) * (a // m) + 2 * (b // m)),
-    cancels out, and no long products and quotients are needed.
-    """
+
+def sum_of_floors(count, a, b, m):
+    """Return the floor sum of numbers that have been checked already."""
     k = b // m
     doubled = count * ((count - 1) * (a // m) + k + k)
     a, b = a % m, b % m
     top = a * count + b
-    before, count = count, top // m
-    if count == 0:
-        return doubled // 2
-    doubled = doubled + before * count - before - count
-    rest, other = top % m, b
-    while count > 0:
-        a, m = m, a
-        before = before - a // m * count
+    rows, rest = top // m, top % m
+    doubled = doubled + count * rows - count - rows
+    while rows > 0:
+        count = count - m // a * rows
+        if rest >= a:
+            k = rest // a
+            rest = rest % a
+            count = count - k
+            doubled = doubled + (rows + 1) * k
+        if b >= a:
+            k = b // a
+            b = b % a
+            count = count + k
+            doubled = doubled + (rows - 1) * k
+        m = m % a
+        if count == 0:
+            return (doubled + rows) // 2
+        rows = rows - a // m * count
+        if b >= m:
+            k = b // m
+            b = b % m
+            rows = rows - k
+            doubled = doubled + (count + 1) * k
         if rest >= m:
             k = rest // m
             rest = rest % m
-            before = before - k
-            doubled = doubled + (count + 1) * k
-        if other >= m:
-            k = other // m
-            other = other % m
-            before = before + k
+            rows = rows + k
             doubled = doubled + (count - 1) * k
-        before, count = count, before
-        rest, other = other, rest
         a = a % m
-    return (doubled + before) // 2
+    return (doubled + count) // 2
