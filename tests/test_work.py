@@ -28,8 +28,16 @@ WHEELS = {
     "D4 small": SQUARE}
 SIXTY = [
     many_corners(60), parabola(60), falling_parabola(60), star(60), comb(60), zigzag(60), zigzag(59), zigzag(60)[::-1]]
+# Candidates of these begin alike for more than three points, and where they differ their first coordinates are equal.
+ALIKE = [
+    [(0, 0), (2, 2), (5, 2), (5, 5), (4, 3), (2, 5), (1, 8), (3, 10), (6, 10), (6, 13), (5, 11), (3, 13), (1, 11)],
+    [(0, 0), (3, -1), (5, 0), (3, 0), (5, 3), (7, 4), (6, 6), (9, 5), (11, 6), (9, 6), (11, 9), (13, 10), (10, 12)],
+    [(0, 0), (2, -2), (5, 1), (6, 4), (6, 5), (5, 8), (4, 10), (5, 11), (7, 9), (10, 12), (11, 15), (11, 16), (10, 19),
+     (7, 23)],
+    [(0, 0), (1, 1), (3, 1), (5, 4), (6, 1), (5, -1), (8, -1), (10, -3), (11, -2), (13, -2), (15, 1), (16, -2),
+     (15, -4), (12, -4)]]
 EXAMPLE = [(0, 0), (4, 0), (6, 2), (6, 6), (2, 6), (0, 4)]
-SMALL = SHAPES + [EXAMPLE, zigzag(8), zigzag(9), zigzag(12)] + random_polygons(60, 3, 8, 3, 151)
+SMALL = SHAPES + ALIKE + [EXAMPLE, zigzag(8), zigzag(9), zigzag(12)] + random_polygons(60, 3, 8, 3, 151)
 SMALL += random_polygons(40, 4, 9, 2, 152)
 
 
