@@ -19,8 +19,8 @@ from latticeshapes.polygons import ConvexPolygon, Polygon
 NO_INTEGERS = [True, False, None, "1", "", b"1", [1], (1,), (), {}, {1: 1}, {1}]
 NO_POINTS = [
     True, False, None, 0, 7, "", "ab", b"ab", (), (1,), (1, 2, 3), [1, 2], [], {}, {0: 1, 1: 2}, {1, 2},
-    (True, 1), (1, False), (True, False), ("1", 2), (1, "2"), (None, 1), (1, None), ((1, 2), 3), ([1], 2),
-    ((1, 2), (3, 4)),
+    (True, 1), (1, False), (True, False), (False, 1), (1, True), ("1", 2), (1, "2"),
+    (None, 1), (1, None), ((1, 2), 3), ([1], 2), ((1, 2), (3, 4)),
 ]
 BIG = 10 ** 60 - 1
 FAR = 10 ** 29
